@@ -1,0 +1,1 @@
+"""Stackquotes: programs without names, and what they do on every stack."""

@@ -1,0 +1,9 @@
+"""The limits that the package keeps to."""
+
+MOST_ENTRIES = 8
+MOST_SIZE = 60
+MOST_NESTED = 6
+MOST_TEXT = 2000
+MOST_CASES = 64
+MOST_SEARCHED = 4
+MOST_DEFINITIONS = 20
