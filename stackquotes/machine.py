@@ -2,7 +2,6 @@
 
 from stackquotes.shapes import QUOTATION
 from stackquotes.store import (
-    APPLICATION,
     ASSUMED,
     BOTTOM,
     CHOICE,

@@ -229,8 +229,8 @@ class EffectTest(unittest.TestCase):
         source = random.Random(1)
         with_effect = 0
         for attempt in range(600):
-            row = (generating.make_row if attempt % 2 else generating.make_row_with_effect)(source, source.randint(0, 9))
-            text = " ".join(row)
+            make_row = generating.make_row if attempt % 2 else generating.make_row_with_effect
+            text = " ".join(make_row(source, source.randint(0, 9)))
             expected = reference.effect(generating.WORDS, text)
             with self.subTest(text=text):
                 program = Program(generating.WORDS, text)

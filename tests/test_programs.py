@@ -169,7 +169,8 @@ class LimitsTest(unittest.TestCase):
             self.assertEqual(caught.exception.limit, limit)
 
     def test_a_size_of_60_is_accepted(self):
-        for text in (" ".join(["t"] * 60), " ".join(["[ ]"] * 60), " ".join(["[ t ]"] * 30), " ".join(["(abcde-)"] * 60)):
+        for words in (["t"] * 60, ["[ ]"] * 60, ["[ t ]"] * 30, ["(abcde-)"] * 60):
+            text = " ".join(words)
             with self.subTest(text=text):
                 self.assertEqual(Program(WORDS, text).size, 60)
 
