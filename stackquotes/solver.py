@@ -4,7 +4,7 @@ Variables are numbered from 1 on. A literal is the number of a variable, or its 
 variable is false. A clause is a list of literals of which one at least must be true.
 """
 
-# A variable that is true, so that these two can be used wherever a literal is already decided.
+# The first variable of each solver is true: so these two are the literals of what is already decided.
 YES = 1
 NO = -1
 
@@ -55,7 +55,7 @@ class Solver:
         self.accept(clause)
 
     def accept(self, clause):
-        """Keep a clause whose literals can all be false but the first one; that one is true if it stands alone."""
+        """Keep a clause of which no literal is known to be true; what stands alone in it must be true."""
         if not clause:
             self.is_hopeless = True
         elif len(clause) == 1:

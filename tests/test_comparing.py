@@ -64,6 +64,9 @@ SAME = (
     ("(a-aa) dip", "(a-aa) [ call ] dip"), ("(a-)", "(a-aa) compose (a-)"),
     ("call 1 2 choose", "[ 1 2 choose ] compose call"),
     ("choose call", "[ [ call ] curry ] dip [ call ] curry choose call"), ("1 (ab-ba) curry call", "1 (ab-ba) call"),
+    ("h 1 2 choose (ab-ba) call t", "h [ 1 (ab-ba) call t ] [ 2 (ab-ba) call t ] choose call"),
+    ("h [ 1 ] [ 2 ] choose (ab-ba) compose call t", "h 1 2 choose (ab-ba) call t"),
+    ("h [ t ] [ ] choose dip call", "h [ [ t ] dip call ] [ call ] choose call"),
     # Quotations that take quotations.
     ("[ call ]", "[ [ ] compose call ]"), ("[ (a-aa) compose call ]", "[ (a-aa) [ call ] dip call ]"),
     ("[ compose ]", "[ [ [ call ] dip call ] curry curry ]"), ("[ curry call ]", "[ call ]"),
@@ -104,6 +107,10 @@ DIFFERENT = (
     ("(a-aa) compose (a-aa) compose", "(a-aaa) compose compose"), ("call 1 2 choose", "call 2 1 choose"),
     ("call (ab-ba)", "call"), ("1 (ab-ba) call", "2 (ab-ba) call"), ("[ t ] dip curry", "curry"),
     ("call call", "call (a-)"),
+    ("choose call", "(abc-b) call"), ("choose call", "(abc-c) call"), ("choose call t", "(abc-b) call t"),
+    ("h 1 2 choose (ab-ba) call t", "1 (ab-ba) call t"), ("1 (ab-ba) call call", "2 (ab-ba) call call"),
+    ("(a-aa) [ call ] dip (ab-ba) [ call (a-) ] dip", "(a-aa) [ call (a-) ] dip call"),
+    ("(a-aa) [ call ] dip (ab-ba) [ call (a-) ] dip [ t ] compose", "(a-aa) [ call (a-) ] dip call [ t ] compose"),
     # Quotations that take quotations.
     ("[ (a-aa) compose call ]", "[ call ]"), ("[ compose ]", "[ (ab-ba) compose ]"), ("[ call ]", "[ (a-) ]"),
     ("[ choose call ]", "[ (abc-acb) choose call ]"), ("[ [ call ] ]", "[ [ (a-) ] ]"),

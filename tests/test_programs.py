@@ -188,8 +188,9 @@ class LimitsTest(unittest.TestCase):
         self.assertEqual(len(Program(WORDS, " ".join(["[ [ ] ]"] * 30))), 30)
 
     def test_nesting_7_deep_is_too_deep(self):
-        for text in (f"[ {DEEPEST} ]", f"t [ t {DEEPEST} ] t", " ".join(["["] * 7 + ["]"] * 7)):
+        for text in (f"[ {DEEPEST} ]", f"t [ t {DEEPEST} ] t", f"[ ] [ [ ] {DEEPEST} ]"):
             self.assert_raised(TooDeep, 6, text)
+        self.assert_raised(TooDeep, 6, " ".join(["["] * 7 + ["]"] * 7))
 
     def test_text_ahead_of_size_ahead_of_nesting(self):
         for text in (" ".join(["t"] * 70 + ["u"]), " ".join(["t"] * 70) + " ", " ".join(["["] * 7), "[ " * 500):

@@ -17,9 +17,9 @@ def can_be_satisfied(variables, clauses):
 class SolverTest(unittest.TestCase):
     def make_clauses(self, source, variables, many):
         # Variable 1 belongs to the solver.
+        lengths = [source.choice((1, 2, 3, 3, 3)) for clause in range(many)]
         return [
-            [source.choice((1, -1)) * source.randint(2, variables + 1) for place in range(source.choice((1, 2, 3, 3, 3)))]
-            for clause in range(many)
+            [source.choice((1, -1)) * source.randint(2, variables + 1) for place in range(length)] for length in lengths
         ]
 
     def test_random_clauses(self):
@@ -146,6 +146,15 @@ class SearchTest(unittest.TestCase):
             other = rewrite(source, store, terms, terms[-1], 5)
             with self.subTest(attempt=attempt):
                 self.assertIs(self.assert_search(store, [(terms[-1], other)]), False)
+
+    def test_several_terms_written_in_another_way(self):
+        source = random.Random(9)
+        for attempt in range(200):
+            store = Store()
+            terms = make_terms(source, store)
+            pairs = [(term, rewrite(source, store, terms, term, 5)) for term in terms[-3:]]
+            with self.subTest(attempt=attempt):
+                self.assertIs(self.assert_search(store, pairs), False)
 
     def test_terms_changed_in_one_case(self):
         source = random.Random(8)
