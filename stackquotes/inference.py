@@ -132,3 +132,23 @@ def common_effect(program, other_program):
     if not shapes.unify(left, other_left) or not shapes.unify(right, other_right):
         return None
     return Effect(shapes, left, right)
+
+
+def is_same_effect(one, other):
+    """Tell whether two effects are the same, whatever their variables are called."""
+    matched = {}
+    renamed, other_renamed = {}, {}
+    pending = [(one.left, other.left), (one.right, other.right)]
+    while pending:
+        first, second = pending.pop()
+        first, second = one.shapes.settle(first), other.shapes.settle(second)
+        if (first, second) in matched:
+            continue
+        matched[(first, second)] = True
+        if one.shapes.kinds[first] != other.shapes.kinds[second]:
+            return False
+        if one.shapes.is_variable(first):
+            if renamed.setdefault(first, second) != second or other_renamed.setdefault(second, first) != first:
+                return False
+        pending.extend(list(zip(one.shapes.parts_of(first), other.shapes.parts_of(second))))
+    return True

@@ -42,7 +42,7 @@ def do_compose(machine):
 def do_choose(machine):
     """Execute the word `choose`."""
     test, one, other = machine.take(3)
-    machine.push([machine.store.choose(test, one, other)])
+    machine.push([machine.choose(test, one, other)])
 
 
 CORE_ACTIONS = {
@@ -69,7 +69,7 @@ def execute_word(machine, word):
     elif kind == UNKNOWN:
         inputs, outputs = detail
         taken = machine.take(inputs)
-        machine.push([machine.store.apply(f"{text}.{number}", taken) for number in range(outputs)])
+        machine.push(machine.apply_word(text, outputs, taken))
     else:
         machine.rows[text] = detail
         machine.push([machine.store.keep(WRITTEN, text)])
@@ -88,7 +88,7 @@ def execute_quotation(machine, quotation):
     if called in machine.results:
         machine.stack = machine.results[called]
         return
-    machine.tasks.append((remember, called))
+    machine.tasks.append((remember, called, machine.calls))
     kind, *parts = machine.store.nodes[quotation]
     if kind == WRITTEN:
         machine.tasks.append((execute_row, machine.rows[parts[0]], 0))
@@ -123,9 +123,10 @@ def merge(machine, test, stack):
     machine.stack = machine.store.choose_stack(test, stack, machine.stack)
 
 
-def remember(machine, called):
+def remember(machine, called, calls):
     """Note what a quotation has left, so that it is not executed again on the same stack."""
-    machine.results[called] = machine.stack
+    if calls == machine.calls:
+        machine.results[called] = machine.stack
 
 
 class Machine:
@@ -142,6 +143,8 @@ class Machine:
         self.tasks = []
         self.rows = {}
         self.results = {}
+        # How often a function outside of the machine was called: what calls one is executed anew each time.
+        self.calls = 0
         self.assumed_shapes = {}
         self.assumed_stacks = 0
 
@@ -153,6 +156,14 @@ class Machine:
         """Pop values from the present stack, and return them, the lowest first."""
         self.stack, taken = self.store.take(self.stack, many)
         return taken
+
+    def apply_word(self, name, outputs, taken):
+        """Return the results of an unknown word, as a list of values."""
+        return [self.store.apply(f"{name}.{number}", taken) for number in range(outputs)]
+
+    def choose(self, test, one, other):
+        """Return the value that the test chooses, or the choice between both."""
+        return self.store.choose(test, one, other)
 
     def assume_stack(self, stack_shape):
         """Return a new stack of which nothing is known but its stack shape."""
@@ -192,6 +203,11 @@ class Machine:
     def execute(self, row, stack):
         """Return the stack that a row of words leaves on a stack."""
         return self.finish((execute_row, row, 0), stack)
+
+    def leave(self, row, stack):
+        """Return a list of the values that a row of words leaves in the place of those on a stack, the lowest first."""
+        bottom, left = self.store.take_all(self.execute(row, stack))
+        return left
 
     def call(self, quotation, stack):
         """Return the stack that a quotation leaves on a stack."""

@@ -1,4 +1,4 @@
-"""A second, naive way to find effects and to compare programs, for tests on small programs.
+"""A second, naive way to find effects, and to compare and to run programs, for tests on small programs.
 
 It works on texts and shares no code with the package. Shapes are nested tuples, quotations are Python functions, and
 two programs are compared path by path: each path answers all tests that are asked.
@@ -163,6 +163,13 @@ def effect(vocabulary, text):
     return effect_text(inference.full(left), inference.full(right))
 
 
+def effect_order(vocabulary, text):
+    """Return the order of the principal effect of a program that has one."""
+    inference = Inference(vocabulary)
+    left, right = inference.row(read(text))
+    return order(("q", inference.full(left), inference.full(right)))
+
+
 def common(vocabulary, one, other):
     """Return the most general common instance of two programs that have effects, or None."""
     inference = Inference(vocabulary)
@@ -271,3 +278,133 @@ def agree(vocabulary, one, other):
         except Unanswered as error:
             pending.extend([{**answers, error.test: truth} for truth in (True, False)])
     return True
+
+
+def input_names(instance):
+    """Return the names of the inputs of an effect, the lowest first."""
+    return [f"x{number}" for number in range(len(spread(instance[0])[1]))][::-1]
+
+
+def first_order(vocabulary, text):
+    """Return the principal effect of a first-order program, or None."""
+    inference = Inference(vocabulary)
+    left, right = (inference.full(side) for side in inference.row(read(text)))
+    shapes = spread(left)[1] + spread(right)[1]
+    if spread(left)[0] != spread(right)[0] or any(shape[0] == "q" for shape in shapes):
+        return None
+    return left, right
+
+
+class Path(World):
+    """A world that notes the tests in the order in which they are asked; those beyond the given answers are true."""
+
+    def __init__(self, vocabulary, answers):
+        World.__init__(self, vocabulary, {})
+        self.given = answers
+
+    def is_true(self, test):
+        if not isinstance(test, int) and test not in self.answers:
+            self.answers[test] = self.given[len(self.answers)] if len(self.answers) < len(self.given) else True
+        return World.is_true(self, test)
+
+
+def paths(vocabulary, rows, most):
+    """Return triples (tests, answers, stacks) for the first cases of several programs on several stacks."""
+    found = []
+    pending = [[]]
+    while pending and len(found) < most:
+        given = pending.pop()
+        path = Path(vocabulary, given)
+        stacks = [path.run(read(text), stack) for text, stack in rows]
+        answers = list(path.answers.values())
+        found.append((list(path.answers), answers, stacks))
+        # The case that differs last is the next one.
+        pending.extend([[*answers[:place], False] for place in range(len(given), len(answers))])
+    return found
+
+
+def term_text(vocabulary, term):
+    if not isinstance(term, tuple):
+        return str(term)
+    word, place, *arguments = term
+    name = word if vocabulary.arity(word)[1] == 1 else f"{word}.{place}"
+    return f"{name}({','.join(term_text(vocabulary, argument) for argument in arguments)})"
+
+
+def tests_text(vocabulary, tests, answers):
+    return tuple((term_text(vocabulary, test), answer) for test, answer in zip(tests, answers))
+
+
+def cases(vocabulary, text, most):
+    """Return the first cases of a first-order program."""
+    names = tuple(input_names(first_order(vocabulary, text)))
+    return tuple(
+        (tests_text(vocabulary, tests, answers), tuple(term_text(vocabulary, term) for term in stacks[0]))
+        for tests, answers, stacks in paths(vocabulary, [(text, names)], most)
+    )
+
+
+def first_difference(vocabulary, one, other, most):
+    """Return the first difference of two first-order programs that do not agree, or None, and how many cases there are."""
+    names = tuple(input_names(common(vocabulary, one, other)))
+    followed = paths(vocabulary, [(one, names), (other, names)], most)
+    for tests, answers, (left, other_left) in followed:
+        for place, (term, other_term) in enumerate(zip(left[::-1], other_left[::-1])):
+            if term != other_term:
+                terms = (term_text(vocabulary, term), term_text(vocabulary, other_term))
+                return (tests_text(vocabulary, tests, answers), place, terms), len(followed)
+    return None, len(followed)
+
+
+def unneeded(vocabulary, text):
+    """Return the numbers of the inputs of a first-order program on which nothing depends."""
+    names = input_names(first_order(vocabulary, text))
+    found = []
+    for number in range(len(names)):
+        other_names = ["other" if name == f"x{number}" else name for name in names]
+        followed = paths(vocabulary, [(text, tuple(names)), (text, tuple(other_names))], 10 ** 6)
+        if all(left == other_left for tests, answers, (left, other_left) in followed):
+            found.append(number)
+    return tuple(found)
+
+
+def run(vocabulary, text, functions, stack):
+    """Return what a program leaves; a quotation is a list of its words, an integer in it stands for itself."""
+    stack = [value if isinstance(value, int) else read(value) for value in stack]
+    run_row(vocabulary, read(text), functions, stack)
+    return tuple(value if isinstance(value, int) else " ".join(show_word(word) for word in value) for value in stack)
+
+
+def show_word(word):
+    return " ".join(["[", *[show_word(inner) for inner in word], "]"]) if isinstance(word, list) else str(word)
+
+
+def run_row(vocabulary, row, functions, stack):
+    for word in row:
+        if isinstance(word, (list, int)):
+            stack.append(word)
+        elif word == "call":
+            run_row(vocabulary, stack.pop(), functions, stack)
+        elif word == "dip":
+            quotation, value = stack.pop(), stack.pop()
+            run_row(vocabulary, quotation, functions, stack)
+            stack.append(value)
+        elif word == "curry":
+            quotation, value = stack.pop(), stack.pop()
+            stack.append([value, *quotation])
+        elif word == "compose":
+            second, first = stack.pop(), stack.pop()
+            stack.append(first + second)
+        elif word == "choose":
+            other, one, test = stack.pop(), stack.pop(), stack.pop()
+            stack.append(one if test else other)
+        elif word in vocabulary.names:
+            inputs = vocabulary.arity(word)[0]
+            taken = [stack.pop() for place in range(inputs)]
+            stack.extend(functions[word](*taken[::-1]))
+        elif word.startswith("("):
+            taken, left = word[1:-1].split("-")
+            letters = {letter: stack.pop() for letter in taken[::-1]}
+            stack.extend([letters[letter] for letter in left])
+        else:
+            stack.append(int(word))

@@ -37,6 +37,44 @@ False
 >>> [idle_words(Program(words, "(ab-ab) t [ ] (a-a) call")), commute(Program(words, "t"), Program(words, "[ t ] dip")), undoes(Program(words, "(abc-cab)"), Program(words, "(abc-bca)"))]
 [(0, 3), True, True]
 """,
+    "cases": """
+>>> from stackquotes.cases import cases, first_difference, unneeded
+>>> from stackquotes.programs import Program
+>>> from stackquotes.samples import sample_program, sample_vocabulary
+>>> words = sample_vocabulary()
+>>> cases(sample_program())
+(((('t(x0)', True),), ('f(x1,x0)',)), ((('t(x0)', False),), ('x0',)))
+>>> first_difference(Program(words, "t (a-aa) 1 2 choose"), Program(words, "t (a-aa) 1 3 choose"))
+((('t(x0)', False),), 0, ('2', '3'))
+>>> [cases(Program(words, "(ab-ba) g (ab-a)")), unneeded(Program(words, "(abc-cc) f")), first_difference(Program(words, "(a-)"), Program(words, "(a-aa)"))]
+[(((), ('x0', 'g.0(x1)')),), (1, 2), ()]
+""",
+    "running": """
+>>> from stackquotes.programs import Program
+>>> from stackquotes.running import run
+>>> from stackquotes.vocabularies import Vocabulary
+>>> words = Vocabulary(("divmod", 2, 2))
+>>> program = Program(words, "divmod [ 5 divmod ] dip (ab-ba) [ divmod ] curry")
+>>> run(program, {"divmod": divmod}, (7, "(a-aa)", 47, 6))
+(7, '(a-aa)', 1, 5, '2 divmod')
+""",
+    "searching": """
+>>> from stackquotes.programs import Program
+>>> from stackquotes.samples import sample_vocabulary
+>>> from stackquotes.searching import shortest
+>>> goal = Program(sample_vocabulary(), "(abc-cab)")
+>>> [shortest(goal, ("(ab-ba)", "[ (ab-ba) ]", "dip")).text, shortest(goal, ("(ab-ba)",))]
+['(ab-ba) [ (ab-ba) ] dip', None]
+""",
+    "libraries": """
+>>> from stackquotes.libraries import Library
+>>> from stackquotes.samples import sample_vocabulary
+>>> library = Library(sample_vocabulary())
+>>> library.change_all(("define", "dup", "(a-aa)"), ("define", "twice", "dup compose call"))
+>>> library.change("twice", "(a-aa) compose call")
+>>> [library.expand("[ t ] twice").text, library.names, library.users("dup"), library.undo(), library.users("dup"), len(library), repr(library)]
+['[ t ] (a-aa) compose call', ('dup', 'twice'), (), None, ('twice',), 2, 'Library(2 definitions)']
+""",
 }
 
 
