@@ -5,7 +5,7 @@ from stackquotes.errors import HigherOrder, TooManyCases
 from stackquotes.inference import common_effect, principal_effect
 from stackquotes.limits import MOST_CASES
 from stackquotes.machine import Machine
-from stackquotes.paths import PathMachine, make_inputs
+from stackquotes.paths import PathMachine, make_inputs, name_inputs
 from stackquotes.programs import check_both_programs, check_program
 from stackquotes.terms import TermTexts
 from stackquotes.worlds import Search
@@ -23,12 +23,6 @@ def find_first_order(program):
     found = principal_effect(program)
     check_first_order(found)
     return found
-
-
-def name_inputs(found):
-    """Return a list of the names of the inputs that an effect takes, the lowest first."""
-    below, shapes = found.shapes.spread(found.left)
-    return [f"x{number}" for number in reversed(range(len(shapes)))]
 
 
 def check_count(many):

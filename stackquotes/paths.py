@@ -4,6 +4,12 @@ from stackquotes.machine import Machine
 from stackquotes.store import BOTTOM, INTEGER
 
 
+def name_inputs(found):
+    """Return a list of the names of the inputs that an effect takes, the lowest first."""
+    below, shapes = found.shapes.spread(found.left)
+    return [f"x{number}" for number in reversed(range(len(shapes)))]
+
+
 def make_inputs(store, names):
     """Return the stack of inputs with these names, the lowest first."""
     bottom = store.keep(BOTTOM, store.apply("bottom", []))

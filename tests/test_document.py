@@ -75,6 +75,31 @@ False
 >>> [library.expand("[ t ] twice").text, library.names, library.users("dup"), library.undo(), library.users("dup"), len(library), repr(library)]
 ['[ t ] (a-aa) compose call', ('dup', 'twice'), (), None, ('twice',), 2, 'Library(2 definitions)']
 """,
+    "certificates": """
+>>> from stackquotes.certificates import certify_agreement, certify_difference, certify_effect
+>>> from stackquotes.checker import holds
+>>> from stackquotes.programs import Program
+>>> from stackquotes.samples import sample_vocabulary
+>>> words = sample_vocabulary()
+>>> one, two = Program(words, "(a-aa) call"), Program(words, "t")
+>>> [certify_effect(one), certify_difference(two, Program(words, "(a-aa) choose")), certify_agreement(two, Program(words, "t [ ] call"))]
+[(('none', 'f 2 1, g 1 2, h 0 1, t 1 1', '(a-aa) call', 1), ()), (('differ', 'f 2 1, g 1 2, h 0 1, t 1 1', 't', '(a-aa) choose'), 'effects'), (('agree', 'f 2 1, g 1 2, h 0 1, t 1 1', 't', 't [ ] call'), ())]
+>>> holds(("differ", str(words), "t 1 2 choose", "t 2 1 choose"), (True,))
+True
+""",
+    "reports": """
+>>> from stackquotes.reports import case_table
+>>> from stackquotes.samples import sample_program
+>>> case_table(sample_program()).split("\\n")
+['if t(x0): f(x1,x0)', 'unless t(x0): x0']
+""",
+    "console": """
+>>> from stackquotes.console import Console
+>>> from stackquotes.samples import sample_vocabulary
+>>> console = Console(sample_vocabulary())
+>>> [console.say("define dup (a-aa)"), console.say("effect dup f"), console.say("same dup (a-) ; "), console.say("change dup (a-a)"), console.say("effect dup call"), console.say("undo"), console.say("undo")]
+['ok', 's0 * -> s0 *', 'same', 'refused', 'none 1', 'ok', 'refused']
+""",
 }
 
 
