@@ -1,6 +1,7 @@
 """A part of the rules of LANGUAGE.md that can be checked by reading the files of the package."""
 
 import ast
+import builtins
 import pathlib
 import re
 import unittest
@@ -18,6 +19,21 @@ BARRED_NODES = (
     ast.Global, ast.AsyncFunctionDef, ast.AsyncFor, ast.AsyncWith, ast.Await, ast.Import, ast.Div, ast.MatMult,
 )
 NAMED_NODES = (ast.FunctionDef, ast.ClassDef)
+
+
+ALLOWED_BUILTINS = (
+    "len", "range", "enumerate", "zip", "min", "max", "sum", "abs", "sorted", "reversed", "int", "str", "bool", "list",
+    "tuple", "dict", "set", "isinstance", "ord", "repr", "any", "all", "divmod", "staticmethod", "ValueError",
+    "TypeError", "LookupError", "ArithmeticError",
+)
+ITERATED_AT_ONCE = ("range", "zip", "enumerate", "reversed")
+BUILTIN_METHODS = {name for kind in (str, int, list, tuple, dict, set, bytes) for name in dir(kind) if name[0] != "_"}
+ALLOWED_METHODS = (
+    "append", "clear", "copy", "count", "endswith", "extend", "find", "get", "index", "insert", "isalnum", "isalpha",
+    "isdigit", "islower", "isspace", "isupper", "items", "join", "keys", "ljust", "lower", "lstrip", "partition", "pop",
+    "remove", "replace", "reverse", "rfind", "rjust", "rpartition", "rsplit", "rstrip", "setdefault", "split",
+    "splitlines", "startswith", "strip", "update", "upper", "values", "zfill", "bit_length", "add", "discard",
+)
 
 
 def package_files():
@@ -104,6 +120,74 @@ class LanguageTest(unittest.TestCase):
                         self.assertNotIsInstance(node.value, (float, complex))
                         if isinstance(node.value, str):
                             self.assertNotIn("%", node.value)
+
+    def test_names_of_builtins(self):
+        for file, text in read_files():
+            for node in ast.walk(ast.parse(text)):
+                with self.subTest(file=file, line=getattr(node, "lineno", None)):
+                    if isinstance(node, ast.Name) and hasattr(builtins, node.id):
+                        self.assertIsInstance(node.ctx, ast.Load)
+                        self.assertIn(node.id, ALLOWED_BUILTINS)
+                    if isinstance(node, ast.arg):
+                        self.assertFalse(hasattr(builtins, node.arg), node.arg)
+
+    def test_iterators_are_not_stored(self):
+        for file, text in read_files():
+            for node in ast.walk(ast.parse(text)):
+                if isinstance(node, (ast.Assign, ast.Return)) and isinstance(node.value, ast.Call):
+                    with self.subTest(file=file, line=node.lineno):
+                        self.assertNotIn(getattr(node.value.func, "id", None), ITERATED_AT_ONCE)
+
+    def test_generator_expressions_are_lists(self):
+        # Classes of the package have __eq__: any, all and the like take lists.
+        for file, text in read_files():
+            for node in ast.walk(ast.parse(text)):
+                self.assertNotIsInstance(node, ast.GeneratorExp, file)
+
+
+class NamesTest(unittest.TestCase):
+    """What can only be seen from all files together."""
+
+    def setUp(self):
+        self.trees = {file.removesuffix(".py"): ast.parse(text) for file, text in read_files()}
+        self.nodes = [node for tree in self.trees.values() for node in ast.walk(tree)]
+        self.methods = {
+            inner.name for node in self.nodes if isinstance(node, ast.ClassDef)
+            for inner in node.body if isinstance(inner, ast.FunctionDef)
+        }
+        attributes = [node for node in self.nodes if isinstance(node, ast.Attribute)]
+        self.assigned = {node.attr for node in attributes if isinstance(node.ctx, ast.Store)}
+        self.read = {node.attr for node in attributes if isinstance(node.ctx, ast.Load)}
+
+    def imports(self, file):
+        """Return pairs (file, name) of what a file imports."""
+        found = [node for node in self.trees[file].body if isinstance(node, ast.ImportFrom)]
+        return [(node.module.split(".")[1], alias.name) for node in found for alias in node.names]
+
+    def test_methods_and_attributes_have_different_names(self):
+        self.assertEqual(self.methods & self.assigned, set())
+        self.assertEqual(self.methods & BUILTIN_METHODS - set(ALLOWED_METHODS), set())
+
+    def test_attributes_that_are_read_are_assigned(self):
+        self.assertEqual(self.read - self.assigned - self.methods - set(ALLOWED_METHODS), set())
+
+    def test_imported_names_are_defined_in_the_file_and_used(self):
+        for file, tree in self.trees.items():
+            used = {node.id for node in ast.walk(tree) if isinstance(node, ast.Name)}
+            for source, name in self.imports(file):
+                with self.subTest(file=file, name=name):
+                    body = self.trees[source].body
+                    defined = [node.name for node in body if isinstance(node, NAMED_NODES)]
+                    defined += [node.targets[0].id for node in body if isinstance(node, ast.Assign)]
+                    self.assertIn(name, defined)
+                    self.assertIn(name, used)
+
+    def test_no_file_imports_itself_through_others(self):
+        done = set()
+        while len(done) < len(self.trees):
+            ready = {file for file in self.trees if {source for source, name in self.imports(file)} <= done} - done
+            self.assertTrue(ready, set(self.trees) - done)
+            done |= ready
 
 
 if __name__ == "__main__":
