@@ -305,6 +305,21 @@ class ChangeTest(LibraryCase):
         library.change("three", "(xyz-xzy) [ ] curry")
         self.assertEqual(library.expand("one").text, "[ ] compose compose")
 
+    def test_effects_that_differ_in_which_variables_are_the_same(self):
+        # They agree, but the second one of each pair takes only values, or quotations, of one and the same shape.
+        for general, special in (
+            ("(ab-ab)", "(ab-abab) 1 (abc-cab) choose (a-)"),
+            ("[ (ab-ab) ]", "[ (ab-abab) 1 (abc-cab) choose (a-) ]"),
+            ("(ab-ab) compose", "(ab-abab) 1 (abc-cab) choose (a-) compose"),
+        ):
+            self.assertIs(agree(make(general), make(special)), True)
+            self.assertNotEqual(effect(make(general)), effect(make(special)))
+            for old, new in ((general, special), (special, general)):
+                with self.subTest(old=old, new=new):
+                    library = filled(("one", old))
+                    self.assert_refused(library, NotEquivalent, library.change, "one", new, value="one")
+                    library.change("one", f"(-) {old}")
+
     def test_effects_that_are_too_long_to_be_written(self):
         nested = " ".join(["(a-aa) [ ] curry curry"] * 12)
         library = filled(("long", nested))
